@@ -1,0 +1,1 @@
+"""Webs of ties, and one polynomial that counts many things of them."""

@@ -1,0 +1,101 @@
+"""Webs and odd things that several tests ask about."""
+
+import itertools
+
+TRIANGLE = (3, ((0, 1), (0, 2), (1, 2)))
+TWIN_AND_CURL = (3, ((0, 1), (0, 1), (2, 2)))
+LONE_POINT = (1, ())
+LOOSE_POINTS = (9, ())
+PATH_OF_NINE = (9, tuple((k, k + 1) for k in range(8)))
+EIGHT_CURLS = (1, ((0, 0),) * 8)
+EIGHT_TWINS = (2, ((0, 1),) * 8)
+TWO_PARTS = (6, ((0, 3), (3, 5), (0, 5), (1, 4), (4, 4)))
+WHEEL = (5, ((0, 1), (0, 2), (0, 3), (0, 4), (1, 2), (2, 3), (3, 4), (1, 4)))
+
+SAMPLES = (
+    TRIANGLE,
+    TWIN_AND_CURL,
+    LONE_POINT,
+    LOOSE_POINTS,
+    PATH_OF_NINE,
+    EIGHT_CURLS,
+    EIGHT_TWINS,
+    TWO_PARTS,
+    WHEEL,
+)
+
+# None of these is a whole number, a pair of points, a number of a tie or a web's text.
+ODD_THINGS = (
+    True,
+    False,
+    None,
+    "",
+    "0",
+    "1",
+    "01",
+    b"3:",
+    1.0,
+    0.0,
+    float("nan"),
+    1j,
+    [],
+    [1],
+    [0, 1],
+    (),
+    (1,),
+    (0,),
+    (0, 1, 0),
+    {},
+    {0: 1},
+    {0, 1},
+    frozenset((0, 1)),
+    range(2),
+    object(),
+    int,
+    len,
+)
+
+FAR_NUMBERS = (-1, -2, -9, -(10**20), -(10**59), 10**20, 10**59, 2**64)
+
+
+def small_webs():
+    """Every web of at most three points and at most three ties."""
+    for points in (1, 2, 3):
+        pairs = [(a, b) for a in range(points) for b in range(a, points)]
+        for many in range(4):
+            for ties in itertools.product(pairs, repeat=many):
+                yield (points, ties)
+
+
+def picks_by_mask(web):
+    """All picks of a web, made another way than the program makes them."""
+    many = len(web[1])
+    masks = range(1 << many)
+    picks = [tuple(k for k in range(many) if mask >> k & 1) for mask in masks]
+    return sorted(picks, key=lambda pick: (len(pick), pick))
+
+
+def reached_from(web, pick, start):
+    """The points to which a way leads, found by walking."""
+    seen = {start}
+    waiting = [start]
+    while waiting:
+        point = waiting.pop()
+        for k in pick:
+            ends = web[1][k]
+            if point in ends:
+                for end in ends:
+                    if end not in seen:
+                        seen.add(end)
+                        waiting.append(end)
+    return sorted(seen)
+
+
+def clusters_by_walking(web, pick):
+    """The clusters of a pick, made another way than the program makes them."""
+    found = []
+    for point in range(web[0]):
+        cluster = reached_from(web, pick, point)
+        if cluster not in found:
+            found.append(cluster)
+    return sorted(found)
