@@ -1,8 +1,6 @@
 """What hangs together by a pick of ties: clusters, ranks, and the kinds of ties."""
 
-from manycounts.errors import NoSuch
-from manycounts.webs import whole_pick
-from manycounts.wholes import is_whole_within
+from manycounts.webs import refuse_no_tie_of, whole_pick
 
 
 def heads_of(web, pick):
@@ -39,8 +37,7 @@ def is_joined(web):
 
 def kind_of(web, k):
     """The kind of the tie k: curl, bridge or plain."""
-    if not is_whole_within(k, 0, len(web[1]) - 1):
-        raise NoSuch("this is no number of a tie")
+    refuse_no_tie_of(web, k)
     tie = web[1][k]
     if tie[0] == tie[1]:
         return "curl"

@@ -1,7 +1,7 @@
-"""Webs, tuples (points, ties), and the picks of their ties."""
+"""Webs, tuples (points, ties), and the numbers, picks and orders of their ties."""
 
-from manycounts.errors import NoTie, NoWeb, TooMany
-from manycounts.wholes import is_whole_within
+from manycounts.errors import NoOrder, NoSuch, NoTie, NoWeb, TooMany
+from manycounts.wholes import is_whole, is_whole_within
 
 MOST_POINTS = 9
 MOST_TIES = 8
@@ -29,6 +29,23 @@ def is_pair_of_points(thing, points):
 def lesser_first(a, b):
     """The tie of two points, the lesser one first."""
     return (a, b) if a <= b else (b, a)
+
+
+def refuse_no_tie_of(web, k):
+    """Refuses what is no number of a tie of the web."""
+    if not is_whole_within(k, 0, len(web[1]) - 1):
+        raise NoSuch("this is no number of a tie")
+
+
+def told_order(web, order):
+    """The order as a tuple of numbers of ties: 0, 1, 2 and so on where it is None."""
+    if order is None:
+        return whole_pick(web)
+    if not isinstance(order, (list, tuple)):
+        raise NoOrder("the order is no list and no tuple")
+    if not all([is_whole(k) for k in order]) or tuple(sorted(order)) != whole_pick(web):
+        raise NoOrder("the order has not each number of a tie once")
+    return tuple(order)
 
 
 def whole_pick(web):

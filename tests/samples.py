@@ -1,6 +1,7 @@
 """Webs and odd things that several tests ask about."""
 
 import itertools
+import math
 
 TRIANGLE = (3, ((0, 1), (0, 2), (1, 2)))
 TWIN_AND_CURL = (3, ((0, 1), (0, 1), (2, 2)))
@@ -99,3 +100,40 @@ def clusters_by_walking(web, pick):
         if cluster not in found:
             found.append(cluster)
     return sorted(found)
+
+
+def poly_by_dict(terms):
+    """The polynomial of terms, made another way than the program makes it."""
+    powers = sorted({(i, j) for i, j, times in terms})
+    sums = [(i, j, sum(term[2] for term in terms if term[:2] == (i, j))) for i, j in powers]
+    return tuple(term for term in sums if term[2])
+
+
+def poly_by_picks(web):
+    """The polynomial of a web, by ranks and sizes of picks, each power of x - 1 and y - 1 written out."""
+    whole = web[0] - len(clusters_by_walking(web, range(len(web[1]))))
+    terms = []
+    for pick in picks_by_mask(web):
+        rank = web[0] - len(clusters_by_walking(web, pick))
+        up, across = whole - rank, len(pick) - rank
+        for i in range(up + 1):
+            for j in range(across + 1):
+                sign = (-1) ** (up - i + across - j)
+                terms.append((i, j, sign * math.comb(up, i) * math.comb(across, j)))
+    return poly_by_dict(terms)
+
+
+def some_orders(many):
+    """All orders of few ties; of more, each turned round and backwards, and some that jump."""
+    if many <= 4:
+        return [list(order) for order in itertools.permutations(range(many))]
+    plain = list(range(many))
+    orders = [plain[k:] + plain[:k] for k in plain]
+    orders += [plain[::2] + plain[1::2], plain[1::2] + plain[::2], plain[1:2] + plain[:1] + plain[2:]]
+    return orders + [order[::-1] for order in orders]
+
+
+def grid_poly(width, height, start=1):
+    """A polynomial of width times height terms, its times of both signs and none alike."""
+    places = [(i, j) for i in range(width) for j in range(height)]
+    return tuple((i, j, (start + k) * (-1) ** k) for k, (i, j) in enumerate(places))

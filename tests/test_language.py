@@ -151,9 +151,52 @@ class Rows(unittest.TestCase):
             if node.attr in own and node.attr != "__init__":
                 self.assertIn(node.attr, METHODS + ["add", "discard"], place)
 
+    def test_powers_have_a_written_exponent(self):
+        for place, node in nodes_of(ast.BinOp):
+            if isinstance(node.op, ast.Pow):
+                self.assertIsInstance(node.right, ast.Constant, place)
+                self.assertIn(node.right.value, range(65), place)
+
+    def test_no_local_is_called_like_a_class_or_an_import(self):
+        for path in FILES:
+            top = [node for node in parsed(path).body if isinstance(node, (ast.ClassDef, ast.ImportFrom))]
+            taken = {name for node in top for name in names_bound(node)}
+            for node in ast.walk(parsed(path)):
+                name = node.arg if isinstance(node, ast.arg) else None
+                if isinstance(node, ast.Name) and isinstance(node.ctx, ast.Store):
+                    name = node.id
+                self.assertNotIn(name, taken, path.name)
+
+    def test_no_name_is_a_method_here_and_a_value_there(self):
+        methods = {inner.name for place, node in nodes_of(ast.ClassDef) for inner in methods_of(node)}
+        values = {node.attr for place, node in nodes_of(ast.Attribute) if isinstance(node.ctx, ast.Store)}
+        self.assertEqual(methods & values, set())
+
+    def test_methods_stand_once_and_have_free_names(self):
+        for place, node in nodes_of(ast.ClassDef):
+            names = [inner.name for inner in methods_of(node)]
+            self.assertEqual(len(names), len(set(names)), place)
+            for name in names:
+                self.assertTrue(name in SPECIAL or not name.startswith("_"), place)
+
+    def test_no_two_files_draw_from_one_another(self):
+        drawn = {path.stem: files_drawn_from(path) for path in FILES}
+        while drawn:
+            free = [name for name in drawn if not any(other in drawn for other in drawn[name])]
+            self.assertNotEqual(free, [], f"a ring of imports among {sorted(drawn)}")
+            drawn = {name: drawn[name] for name in drawn if name not in free}
+
     def assert_plain_name(self, name, place):
         self.assertRegex(name, r"^[A-Za-z][A-Za-z0-9_]*$", place)
         self.assertFalse(hasattr(builtins, name), f"{place}: {name}")
+
+
+def methods_of(node):
+    return [inner for inner in node.body if isinstance(inner, ast.FunctionDef)]
+
+
+def files_drawn_from(path):
+    return [node.module.split(".")[1] for node in parsed(path).body if isinstance(node, ast.ImportFrom)]
 
 
 def names_bound(node):
