@@ -30,6 +30,11 @@ def rank_of(web, pick):
     return web[0] - len(set(heads_of(web, pick)))
 
 
+def rank_of_web(web):
+    """The rank of a web, that of all its ties."""
+    return rank_of(web, whole_pick(web))
+
+
 def is_joined(web):
     """Whether the web is one cluster."""
     return len(clusters_of(web, whole_pick(web))) == 1
@@ -42,6 +47,6 @@ def kind_of(web, k):
     if tie[0] == tie[1]:
         return "curl"
     others = tuple([other for other in whole_pick(web) if other != k])
-    if rank_of(web, others) < rank_of(web, whole_pick(web)):
+    if rank_of(web, others) < rank_of_web(web):
         return "bridge"
     return "plain"

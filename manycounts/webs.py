@@ -1,6 +1,6 @@
-"""Webs, tuples (points, ties), and the numbers, picks and orders of their ties."""
+"""Webs, tuples (points, ties), their points, and the numbers, picks and orders of their ties."""
 
-from manycounts.errors import NoOrder, NoSuch, NoTie, NoWeb, TooMany
+from manycounts.errors import NoOrder, NoPoint, NoSuch, NoTie, NoWeb, TooMany
 from manycounts.wholes import is_whole, is_whole_within
 
 MOST_POINTS = 9
@@ -35,6 +35,12 @@ def refuse_no_tie_of(web, k):
     """Refuses what is no number of a tie of the web."""
     if not is_whole_within(k, 0, len(web[1]) - 1):
         raise NoSuch("this is no number of a tie")
+
+
+def refuse_no_point_of(web, point):
+    """Refuses what is no point of the web."""
+    if not is_whole_within(point, 0, web[0] - 1):
+        raise NoPoint("this is no point")
 
 
 def told_order(web, order):

@@ -12,6 +12,10 @@ EIGHT_CURLS = (1, ((0, 0),) * 8)
 EIGHT_TWINS = (2, ((0, 1),) * 8)
 TWO_PARTS = (6, ((0, 3), (3, 5), (0, 5), (1, 4), (4, 4)))
 WHEEL = (5, ((0, 1), (0, 2), (0, 3), (0, 4), (1, 2), (2, 3), (3, 4), (1, 4)))
+PLAIN_AND_MORE = (4, ((0, 1), (1, 1), (1, 2), (1, 2), (2, 3)))
+SQUARE_WITH_A_BAR = (4, ((0, 1), (1, 2), (2, 3), (0, 3), (0, 2)))
+EACH_WITH_EACH = (4, ((0, 1), (0, 2), (0, 3), (1, 2), (1, 3), (2, 3)))
+ALL_KINDS = (6, ((4, 5), (0, 1), (2, 2), (0, 1), (1, 2), (4, 5)))
 
 SAMPLES = (
     TRIANGLE,
@@ -68,6 +72,24 @@ def small_webs():
                 yield (points, ties)
 
 
+def jumbled_webs():
+    """Webs of one to nine points and of up to eight ties, jumbled, but always the same ones."""
+    number = 1
+    for points in range(1, 10):
+        for many in (3, 5, 6, 7, 8):
+            ends = []
+            for end in range(2 * many):
+                number = (number * 1103515245 + 12345) % 2**31
+                ends.append((number >> 16) % points)
+            yield (points, tuple(tuple(sorted(ends[k:k + 2])) for k in range(0, 2 * many, 2)))
+
+
+def many_webs():
+    """The webs that most promises are tried on."""
+    named = (PLAIN_AND_MORE, SQUARE_WITH_A_BAR, EACH_WITH_EACH, ALL_KINDS)
+    return list(SAMPLES) + list(named) + list(small_webs()) + list(jumbled_webs())
+
+
 def picks_by_mask(web):
     """All picks of a web, made another way than the program makes them."""
     many = len(web[1])
@@ -102,6 +124,19 @@ def clusters_by_walking(web, pick):
     return sorted(found)
 
 
+def rank_by_walking(web, pick):
+    """The rank of a pick, by clusters that are found by walking."""
+    return web[0] - len(clusters_by_walking(web, pick))
+
+
+def trees_by_walking(web):
+    """All trees, sorted: picks that hold the web's clusters together, but not without any one of their ties."""
+    whole = clusters_by_walking(web, range(len(web[1])))
+    holders = {pick for pick in picks_by_mask(web) if clusters_by_walking(web, pick) == whole}
+    lesser = {pick: [pick[:at] + pick[at + 1:] for at in range(len(pick))] for pick in holders}
+    return sorted(pick for pick in holders if not any(less in holders for less in lesser[pick]))
+
+
 def poly_by_dict(terms):
     """The polynomial of terms, made another way than the program makes it."""
     powers = sorted({(i, j) for i, j, times in terms})
@@ -111,10 +146,10 @@ def poly_by_dict(terms):
 
 def poly_by_picks(web):
     """The polynomial of a web, by ranks and sizes of picks, each power of x - 1 and y - 1 written out."""
-    whole = web[0] - len(clusters_by_walking(web, range(len(web[1]))))
+    whole = rank_by_walking(web, range(len(web[1])))
     terms = []
     for pick in picks_by_mask(web):
-        rank = web[0] - len(clusters_by_walking(web, pick))
+        rank = rank_by_walking(web, pick)
         up, across = whole - rank, len(pick) - rank
         for i in range(up + 1):
             for j in range(across + 1):
@@ -126,11 +161,30 @@ def poly_by_picks(web):
 def some_orders(many):
     """All orders of few ties; of more, each turned round and backwards, and some that jump."""
     if many <= 4:
-        return [list(order) for order in itertools.permutations(range(many))]
+        return every_order(many)
     plain = list(range(many))
     orders = [plain[k:] + plain[:k] for k in plain]
     orders += [plain[::2] + plain[1::2], plain[1::2] + plain[::2], plain[1:2] + plain[:1] + plain[2:]]
     return orders + [order[::-1] for order in orders]
+
+
+def every_order(many):
+    """Each order of so many ties."""
+    return [list(order) for order in itertools.permutations(range(many))]
+
+
+def wrong_orders(web):
+    """Things that are no order of the web's ties."""
+    plain = list(range(len(web[1])))
+    odd_things = [odd for odd in ODD_THINGS + FAR_NUMBERS if odd is not None]
+    wrong = [odd for odd in odd_things if odd not in (plain, tuple(plain))] + [0, 1, 3]
+    wrong += [plain + [len(plain)], plain + [-1], plain + [None], tuple(plain) + (0,), [plain], (plain,)]
+    wrong += [range(len(plain)), dict.fromkeys(plain), iter(plain), "".join(str(k) for k in plain), bytearray(plain)]
+    for at in plain:
+        within = odd_things + [None, len(plain), str(at), float(at), [at]] + [k for k in plain if k != at]
+        wrong += [plain[:at] + [odd] + plain[at + 1:] for odd in within]
+        wrong += [plain[:at] + plain[at + 1:], tuple(plain[:at] + plain[at + 1:]), plain + [at]]
+    return wrong
 
 
 def grid_poly(width, height, start=1):

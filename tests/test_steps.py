@@ -14,23 +14,23 @@ from samples import (
     LOOSE_POINTS,
     ODD_THINGS,
     PATH_OF_NINE,
+    PLAIN_AND_MORE,
     SAMPLES,
+    SQUARE_WITH_A_BAR,
     TRIANGLE,
     TWIN_AND_CURL,
     TWO_PARTS,
     WHEEL,
-    clusters_by_walking,
     picks_by_mask,
     poly_by_dict,
     poly_by_picks,
     reached_from,
     small_webs,
     some_orders,
+    trees_by_walking,
 )
 
 ONE = ((0, 0, 1),)
-PLAIN_AND_MORE = (4, ((0, 1), (1, 1), (1, 2), (1, 2), (2, 3)))
-SQUARE_WITH_A_BAR = (4, ((0, 1), (1, 2), (2, 3), (0, 3), (0, 2)))
 SIXTY = 10**60 - 1
 
 
@@ -398,10 +398,7 @@ class OnePolynomial(unittest.TestCase):
 
     def test_the_leaves_have_the_trees(self):
         for web in list(SAMPLES) + [PLAIN_AND_MORE, SQUARE_WITH_A_BAR] + list(small_webs()):
-            clusters = clusters_by_walking(web, range(len(web[1])))
-            rank = web[0] - len(clusters)
-            picks = [pick for pick in picks_by_mask(web) if len(pick) == rank]
-            trees = sorted(pick for pick in picks if clusters_by_walking(web, pick) == clusters)
+            trees = trees_by_walking(web)
             for order in some_orders(len(web[1])):
                 step = steps_of(web, order)
                 self.assertEqual([leaf[0] for leaf in step.leaves()], trees)
