@@ -187,6 +187,23 @@ def wrong_orders(web):
     return wrong
 
 
+def pointings_by_product(web):
+    """All pointings of a web, sorted."""
+    return sorted(itertools.product((0, 1), repeat=len(web[1])))
+
+
+def led(web, pointing, k):
+    """The points from which and to which the tie k leads."""
+    a, b = web[1][k]
+    return (a, b) if pointing[k] == 0 else (b, a)
+
+
+def wrong_points(web):
+    """Things that are no point of the web."""
+    points = web[0]
+    return ODD_THINGS + FAR_NUMBERS + (points, points + 1, -points, (0, 1), [points], "2")
+
+
 def grid_poly(width, height, start=1):
     """A polynomial of width times height terms, its times of both signs and none alike."""
     places = [(i, j) for i in range(width) for j in range(height)]
