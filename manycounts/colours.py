@@ -37,14 +37,18 @@ def fits_at(web, colours, point):
 def colour_row(web):
     """The row of the colourings: c0, c1 and so on, for c0 + c1 * q + c2 * q ** 2 and so on."""
     rank = rank_of_web(web)
+    ahead = ((web[0] - rank, 0, number_to_power(-1, rank)),)
+    return row_of(product_of(ahead, with_one_less_q(by_picks(web))))
+
+
+def with_one_less_q(poly):
+    """A polynomial with 1 - q for x and 0 for y: one in q alone, which stands in the place of x then."""
     one_less_q = ((0, 0, 1), (1, 0, -1))
-    # The polynomial with 1 - q for x and 0 for y is one in q alone, which stands in the place of x here.
     terms = []
-    for i, j, times in by_picks(web):
+    for i, j, times in poly:
         if j == 0:
             terms.extend(product_of(((0, 0, times),), to_power(one_less_q, i)))
-    ahead = ((web[0] - rank, 0, number_to_power(-1, rank)),)
-    return row_of(product_of(ahead, gathered(terms)))
+    return gathered(terms)
 
 
 def row_of(poly):

@@ -1,7 +1,7 @@
 """Webs, tuples (points, ties), their points, and the numbers, picks and orders of their ties."""
 
 from manycounts.errors import NoOrder, NoPoint, NoSuch, NoTie, NoWeb, TooMany
-from manycounts.wholes import is_whole, is_whole_within
+from manycounts.wholes import is_each_once, is_whole_within
 
 MOST_POINTS = 9
 MOST_TIES = 8
@@ -47,10 +47,8 @@ def told_order(web, order):
     """The order as a tuple of numbers of ties: 0, 1, 2 and so on where it is None."""
     if order is None:
         return whole_pick(web)
-    if not isinstance(order, (list, tuple)):
-        raise NoOrder("the order is no list and no tuple")
-    if not all([is_whole(k) for k in order]) or tuple(sorted(order)) != whole_pick(web):
-        raise NoOrder("the order has not each number of a tie once")
+    if not is_each_once(order, len(web[1])):
+        raise NoOrder("the order is no list or tuple that has each number of a tie once")
     return tuple(order)
 
 

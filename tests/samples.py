@@ -1,5 +1,6 @@
 """Webs and odd things that several tests ask about."""
 
+import functools
 import itertools
 import math
 
@@ -175,7 +176,17 @@ def every_order(many):
 
 def wrong_orders(web):
     """Things that are no order of the web's ties."""
-    plain = list(range(len(web[1])))
+    return not_each_once(len(web[1]))
+
+
+def wrong_places(web):
+    """Things that are no places for the web's points."""
+    return not_each_once(web[0]) + [None]
+
+
+def not_each_once(many):
+    """Things, other than None, that are no list or tuple with each number below many once."""
+    plain = list(range(many))
     odd_things = [odd for odd in ODD_THINGS + FAR_NUMBERS if odd is not None]
     wrong = [odd for odd in odd_things if odd not in (plain, tuple(plain))] + [0, 1, 3]
     wrong += [plain + [len(plain)], plain + [-1], plain + [None], tuple(plain) + (0,), [plain], (plain,)]
@@ -198,6 +209,69 @@ def led(web, pointing, k):
     return (a, b) if pointing[k] == 0 else (b, a)
 
 
+def far_reached(web, pointing):
+    """For each point all points to which ties lead from it, itself among them."""
+    reached = [{point} for point in range(web[0])]
+    for step in range(web[0]):
+        for k in range(len(web[1])):
+            start, end = led(web, pointing, k)
+            reached[start] |= reached[end]
+    return reached
+
+
+def ringed_ties(web, pointing):
+    """The ties from whose end something leads back to where they begin."""
+    reached = far_reached(web, pointing)
+    ends = [led(web, pointing, k) for k in range(len(web[1]))]
+    return [k for k, (start, end) in enumerate(ends) if start in reached[end]]
+
+
+def springs_by_words(web, pointing):
+    """The points to which no tie leads."""
+    ends = {led(web, pointing, k)[1] for k in range(len(web[1]))}
+    return [point for point in range(web[0]) if point not in ends]
+
+
+def score_by_words(web, pointing):
+    """For each point how many ties lead from it."""
+    score = [0] * web[0]
+    for k in range(len(web[1])):
+        score[led(web, pointing, k)[0]] += 1
+    return tuple(score)
+
+
+def scores_by_words(web):
+    """All unlike scores, sorted."""
+    return sorted({score_by_words(web, pointing) for pointing in pointings_by_product(web)})
+
+
+def colourings_by_words(web, q):
+    """All colourings by q colours, found among all tuples."""
+    tuples = itertools.product(range(q), repeat=web[0])
+    return [colours for colours in tuples if all(colours[a] != colours[b] for a, b in web[1])]
+
+
+def is_flow_by_words(web, numbers, q):
+    """Whether, at each point, those that have it as a and those that have it as b come to one rest."""
+    for point in range(web[0]):
+        away = sum(number for (a, b), number in zip(web[1], numbers) if a == point)
+        near = sum(number for (a, b), number in zip(web[1], numbers) if b == point)
+        if away % q != near % q:
+            return False
+    return True
+
+
+def flows_by_words(web, q):
+    """All flows by q, found among all tuples."""
+    tuples = itertools.product(range(1, q), repeat=len(web[1]))
+    return [numbers for numbers in tuples if is_flow_by_words(web, numbers, q)]
+
+
+def worth_of(row, q):
+    """The worth of a row for q."""
+    return sum(number * q**k for k, number in enumerate(row))
+
+
 def wrong_points(web):
     """Things that are no point of the web."""
     points = web[0]
@@ -208,3 +282,65 @@ def grid_poly(width, height, start=1):
     """A polynomial of width times height terms, its times of both signs and none alike."""
     places = [(i, j) for i in range(width) for j in range(height)]
     return tuple((i, j, (start + k) * (-1) ** k) for k, (i, j) in enumerate(places))
+
+
+def rounds_by_walking(follows):
+    """The rounds of a dict that leads from each end to the next one, each from its least end on, sorted."""
+    left, rounds = sorted(follows), []
+    while left:
+        ends = [left[0]]
+        while follows[ends[-1]] != ends[0]:
+            ends.append(follows[ends[-1]])
+        rounds.append(ends)
+        left = [end for end in left if end not in ends]
+    return rounds or [[]]
+
+
+def points_by_walking(turns):
+    """The rounds that are the points of a drawing."""
+    return rounds_by_walking(dict(enumerate(turns)))
+
+
+def lands_by_walking(turns):
+    """The rounds that are the lands of a drawing: along a tie, and on to the next one there."""
+    mates = {end: 4 * (end // 2) + 1 - end for end in range(len(turns))}
+    return rounds_by_walking({end: turns[mates[end]] for end in mates})
+
+
+def web_by_walking(turns):
+    """The web of a drawing, told or refused."""
+    points = points_by_walking(turns)
+    places = [[at for at, ends in enumerate(points) if end in ends][0] for end in range(len(turns))]
+    return (len(points), tuple(tuple(sorted(places[k:k + 2])) for k in range(0, len(turns), 2)))
+
+
+def is_plane(turns):
+    """Whether turns that have each end once are those of a joined drawing in the plane."""
+    web = web_by_walking(turns)
+    joined = len(clusters_by_walking(web, range(len(web[1])))) == 1
+    return joined and web[0] - len(web[1]) + len(lands_by_walking(turns)) == 2
+
+
+def with_one_tie_more(turns):
+    """The drawings in the plane of a drawing and a tie more, its ends at old points or at a new one."""
+    many = len(turns)
+    for one, other in itertools.product([None, *range(many)], [None, *range(many + 1)]):
+        grown = list(turns) + [None, None]
+        for end, behind in ((many, one), (many + 1, other)):
+            grown[end] = end if behind is None else grown[behind]
+            if behind is not None:
+                grown[behind] = end
+        if is_plane(grown):
+            yield tuple(grown)
+
+
+@functools.cache
+def grown_drawings():
+    """Drawings of no tie and of one to eight ties, grown tie by tie; of each size not more than forty."""
+    of_one_size, drawings = [()], [()]
+    for many in range(8):
+        greater = sorted({grown for turns in of_one_size for grown in with_one_tie_more(turns)})
+        # A step that shares nothing with the sizes takes them from everywhere.
+        of_one_size = greater[::max(1, len(greater) // 40 | 1)][:40]
+        drawings += of_one_size
+    return drawings

@@ -25,19 +25,16 @@ from samples import (
     TWO_PARTS,
     WHEEL,
     clusters_by_walking,
+    colourings_by_words,
     many_webs,
     picks_by_mask,
+    worth_of,
 )
 
 # For each number of points the greatest q of which the tuples are listed.
 GREATEST = {1: 1000, 2: 31, 3: 10, 4: 5, 5: 3, 6: 3, 7: 2, 8: 2, 9: 2}
 BELOW_NOUGHT = (-1, -2, -31, -1000, -(10**20), 1 - 10**60)
 GREAT = (1001, 1002, 10**4, 10**20, 2**64, 10**59, 10**59 + 7, 10**60 - 1)
-
-
-def colourings_by_words(web, q):
-    tuples = itertools.product(range(q), repeat=web[0])
-    return [colours for colours in tuples if all(colours[a] != colours[b] for a, b in web[1])]
 
 
 def listed_for(web):
@@ -161,8 +158,7 @@ class Rows(unittest.TestCase):
             row = colour_row(web)
             for poly in (by_picks(web), by_leaving(web), by_trees(web)):
                 for q in (0, 1, 2, 3, 7, 10**59):
-                    worth = sum(number * q**k for k, number in enumerate(row))
-                    self.assertEqual(worth, (-1) ** rank * q ** (web[0] - rank) * worth_at(poly, 1 - q, 0))
+                    self.assertEqual(worth_of(row, q), (-1) ** rank * q ** (web[0] - rank) * worth_at(poly, 1 - q, 0))
 
     def test_a_told_row_changed_behind_changes_nothing(self):
         for web in SAMPLES:
@@ -199,7 +195,7 @@ class Counts(unittest.TestCase):
             for q in (100, 1001, 10**20, 10**59 + 7, 10**60 - 1):
                 told = colour_count(web, q)
                 self.assertIs(type(told), int)
-                self.assertEqual(told, sum(number * q**k for k, number in enumerate(row)))
+                self.assertEqual(told, worth_of(row, q))
                 self.assertEqual(told, count_by_picks(web, q))
 
 

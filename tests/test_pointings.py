@@ -36,7 +36,9 @@ from samples import (
     led,
     many_webs,
     pointings_by_product,
+    ringed_ties,
     small_webs,
+    springs_by_words,
     wrong_points,
 )
 
@@ -57,28 +59,6 @@ def all_rings(web, pointing):
     many = len(web[1])
     tries = [ties for size in range(1, many + 1) for ties in itertools.permutations(range(many), size)]
     return [list(ties) for ties in tries if is_ring(web, pointing, ties)]
-
-
-def far_reached(web, pointing):
-    """For each point all points to which ties lead from it, itself among them."""
-    reached = [{point} for point in range(web[0])]
-    for step in range(web[0]):
-        for k in range(len(web[1])):
-            start, end = led(web, pointing, k)
-            reached[start] |= reached[end]
-    return reached
-
-
-def ringed_ties(web, pointing):
-    """The ties from whose end something leads back to where they begin."""
-    reached = far_reached(web, pointing)
-    ends = [led(web, pointing, k) for k in range(len(web[1]))]
-    return [k for k, (start, end) in enumerate(ends) if start in reached[end]]
-
-
-def springs_by_words(web, pointing):
-    ends = {led(web, pointing, k)[1] for k in range(len(web[1]))}
-    return [point for point in range(web[0]) if point not in ends]
 
 
 class Rings(unittest.TestCase):

@@ -23,22 +23,11 @@ from samples import (
     TRIANGLE,
     TWIN_AND_CURL,
     TWO_PARTS,
-    led,
     many_webs,
-    pointings_by_product,
+    score_by_words,
+    scores_by_words,
     small_webs,
 )
-
-
-def score_by_words(web, pointing):
-    score = [0] * web[0]
-    for k in range(len(web[1])):
-        score[led(web, pointing, k)[0]] += 1
-    return tuple(score)
-
-
-def scores_by_words(web):
-    return sorted({score_by_words(web, pointing) for pointing in pointings_by_product(web)})
 
 
 class AllScores(unittest.TestCase):
